@@ -1,0 +1,1 @@
+"""Lotcosts: what sales cost, for all prices."""
