@@ -3,6 +3,7 @@
 import doctest
 import unittest
 
+# In the order of the document, as later examples use names of earlier ones.
 EXAMPLES = {
     "ratios": """
 >>> from lotcosts.ratios import Ratio
@@ -20,18 +21,71 @@ cost.at_most(Form({"wool": 2, "silk": 1}))]
 >>> parting(cost, cost + Form.of("flax"))["flax"]
 1
 """,
+    "books": """
+>>> from lotcosts.books import Book
+>>> book = Book()
+>>> book[2, 0] = ("sell", "first", 4)
+>>> book[1, 0] = ("buy", "red", 3)
+>>> book[1, 1] = ("buy", "blue", 5)
+>>> [book.places(), book.lots(), book[2, 0], (2, 1) in book, book.tried(lambda b: b.remove(1, 1)), len(book)]
+[[(1, 0), (1, 1), (2, 0)], ['red', 'blue'], ('sell', 'first', 4), False, None, 3]
+""",
+    "layers": """
+>>> from lotcosts.layers import Rule
+>>> layers = [("red", Ratio(3)), ("blue", Ratio(5))]
+>>> taken, left = Rule("even")(layers, 4)
+>>> [[(lot, part.top, part.bottom) for lot, part in taken], left[1][1].same(Ratio(5, 2))]
+[[('red', 3, 2), ('blue', 5, 2)], True]
+>>> taken, left = Rule("oldest", place="top")(layers, 4)
+>>> [[(lot, part.top) for lot, part in taken], [(lot, part.top) for lot, part in left]]
+[[('red', 3), ('blue', 1)], [('blue', 4)]]
+>>> back, kept = Rule("oldest").returned(taken, 2)
+>>> [[(lot, part.top) for lot, part in back], [(lot, part.top) for lot, part in kept]]
+[[('blue', 1), ('red', 1)], [('red', 2)]]
+>>> [(lot, part.top) for lot, part in Rule("oldest", place="top").laid(left, back, ["red", "blue"])]
+[('blue', 5), ('red', 1)]
+""",
+    "costing": """
+>>> from lotcosts.costing import Costing
+>>> book[3, 0] = ("late", "freight", "blue")
+>>> book[4, 0] = ("back", "first", 2)
+>>> costs = Costing(book, Rule("oldest", place="top"))
+>>> form = costs.cost("first")
+>>> [(name, form.share(name).top, form.share(name).bottom) for name in form.names()]
+[('red', 2, 1)]
+>>> late = costs.booked(3, 0)
+>>> [late.names(), late.share("freight").same(Ratio(1, 5)), costs.booked(4, 0).share("blue").same(-1)]
+[['freight'], True, True]
+>>> [[(lot, part.top) for lot, part in costs.layers()], costs.until(4).same(form)]
+[[('blue', 5), ('red', 1)], True]
+""",
+    "known": """
+>>> from lotcosts.forms import Form
+>>> from lotcosts.known import Known, carried, never_more
+>>> known = Known([("old", "mid"), ("mid", "new")])
+>>> early = Form({"old": 2, "mid": 1})
+>>> late = Form({"mid": 1, "new": 2})
+>>> [known.told("old", "new"), never_more(early, late, known), never_more(late, early, known)["new"]]
+[True, None, 1]
+>>> [(source, target, amount.top) for source, target, amount in carried(early, late, known)]
+[('old', 'new', 2)]
+>>> carried(late, early, known) is None
+True
+""",
 }
 
 
 class ExamplesTest(unittest.TestCase):
     def test_examples(self):
+        found = {}
         for name, text in EXAMPLES.items():
             with self.subTest(name):
-                test = doctest.DocTestParser().get_doctest(text, {}, name, None, 0)
+                test = doctest.DocTestParser().get_doctest(text, found, name, None, 0)
                 told = []
-                results = doctest.DocTestRunner().run(test, out=told.append)
+                results = doctest.DocTestRunner().run(test, out=told.append, clear_globs=False)
                 self.assertGreater(results.attempted, 0)
                 self.assertEqual(results.failed, 0, "".join(told))
+                found = test.globs
 
 
 if __name__ == "__main__":
