@@ -1,6 +1,6 @@
 """Exact rational numbers."""
 
-from math import gcd
+from math import gcd, lcm
 
 from lotcosts.errors import NoRatio
 
@@ -10,6 +10,15 @@ def as_ratio(number):
     if isinstance(number, Ratio):
         return number
     return Ratio(number)
+
+
+def over_one_bottom(numbers):
+    """Return the list of the tops that the numbers have over one common bottom, and this bottom."""
+    ratios = [as_ratio(number) for number in numbers]
+    bottom = 1
+    for ratio in ratios:
+        bottom = lcm(bottom, ratio.bottom)
+    return [ratio.top * (bottom // ratio.bottom) for ratio in ratios], bottom
 
 
 class Ratio:

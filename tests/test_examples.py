@@ -72,6 +72,58 @@ cost.at_most(Form({"wool": 2, "silk": 1}))]
 >>> carried(late, early, known) is None
 True
 """,
+    "limits": """
+>>> from lotcosts.forms import Form
+>>> from lotcosts.known import Known
+>>> from lotcosts.limits import Limits, greatest, least
+>>> limits = Limits(Known([("old", "new")]), low={"old": 2}, high={"new": 5})
+>>> cost = Form({"old": 3, "new": -1})
+>>> value, prices = greatest(cost, limits)
+>>> [value.top, value.bottom, least(cost, limits)[0].same(1)]
+[10, 1, True]
+>>> greatest(Form.of("silk") - Form.of("new"), limits)
+(None, ['silk'])
+""",
+    "ways": """
+>>> from lotcosts.books import Book
+>>> from lotcosts.known import Known
+>>> from lotcosts.ways import Ways
+>>> book = Book()
+>>> book[1, 0] = ("buy", "old", 3)
+>>> book[2, 0] = ("sell", "s", 2)
+>>> book[3, 0] = ("buy", "new", 4)
+>>> book[4, 0] = ("sell", "t", 2)
+>>> ways = Ways(book)
+>>> [ways.possible({"old": 1, "new": 3}), ways.fewest("old"), ways.most("old"), \
+ways.cheapest({"old": 9, "new": 2})["new"]]
+[False, 2, 3, 2]
+>>> [ways.always_cheapest(Known([("old", "new")])) == {"old": 3, "new": 1}, ways.always_cheapest(Known([]))]
+[True, None]
+""",
+    "histories": """
+>>> from lotcosts.histories import periods_show, returns_show, rules_part
+>>> from lotcosts.layers import Rule
+>>> [rules_part(Rule("oldest"), Rule("oldest", period=7)), returns_show(Rule("newest", place="top"))]
+[None, None]
+>>> [len(rules_part(Rule("oldest"), Rule("newest"))), len(returns_show(Rule("oldest", place="top"))), \
+len(periods_show(Rule("even", period=1)))]
+[3, 5, 3]
+""",
+    "closing": """
+>>> from lotcosts.closing import Ledger, changes
+>>> early = Book()
+>>> early[1, 0] = ("buy", "red", 3)
+>>> early[4, 0] = ("sell", "one", 3)
+>>> sales, stock = changes(early, Rule("newest"), 2, 0, ("buy", "blue", 2))
+>>> [(name, sales["one"].share(name).top) for name in sales["one"].names()]
+[('blue', 2), ('red', -2)]
+>>> ledger = Ledger(early, Rule("newest"))
+>>> ledger.close(5).share("red").top
+3
+>>> ledger.enter(2, 0, ("buy", "blue", 2))
+>>> [ledger.pending().share("blue").top, ledger.close(6).same(sales["one"]), ledger.closed()]
+[2, True, [5, 6]]
+""",
 }
 
 

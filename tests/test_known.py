@@ -5,36 +5,19 @@ import unittest
 from fractions import Fraction
 from itertools import combinations, product
 
+from helping import BIG, form_of, fraction, told_by_hand
 from lotcosts.forms import Form
 from lotcosts.known import Known, carried, never_more
 from lotcosts.ratios import Ratio
 
 CHAIN = [("a", "b"), ("b", "c"), ("c", "d")]
 RING = [("a", "b"), ("b", "c"), ("c", "a")]
-BIG = 10 ** 50 - 1
-
-
-def fraction(ratio):
-    return Fraction(ratio.top, ratio.bottom)
-
-
-def form_of(shares):
-    return Form({name: Ratio(Fraction(share).numerator, Fraction(share).denominator) for name, share in shares.items()})
 
 
 def difference(one, other):
     """The shares of other minus those of one, without zeros."""
     shares = {name: fraction(other.share(name)) - fraction(one.share(name)) for name in one.names() + other.names()}
     return {name: share for name, share in shares.items() if share}
-
-
-def told_by_hand(pairs, low, high):
-    """Whether a chain leads from low to high: names are added until none is missing."""
-    found, more = set(), {low}
-    while more - found:
-        found |= more
-        more = {upper for lower, upper in pairs if lower in found}
-    return high in found
 
 
 def keeps(pairs, prices):
