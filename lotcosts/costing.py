@@ -34,7 +34,7 @@ class Costing:
 
     def cost(self, sale):
         """Return the cost of the sale, with all late costs; raise UnknownName if there is no such sale."""
-        return self._cost_of(self.parts(sale))
+        return self.cost_of(self.parts(sale))
 
     def parts(self, sale):
         """Return the parts that the sale still has; raise UnknownName if there is no such sale."""
@@ -58,7 +58,17 @@ class Costing:
 
     def stock(self):
         """Return the cost of the units in stock, with all late costs."""
-        return self._cost_of(self._layers)
+        return self.cost_of(self._layers)
+
+    def cost_of(self, parts):
+        """Return the cost of the units in these parts, with the late costs so far."""
+        units = _sums(parts)
+        shares = {}
+        for lot in units:
+            shares[lot] = units[lot]
+            for cost in self._late[lot]:
+                shares[cost] = units[lot].over(self._bought[lot])
+        return Form(shares)
 
     def paid(self):
         """Return everything that was paid: each lot by its units, and each late cost once."""
@@ -87,12 +97,12 @@ class Costing:
         if sale in self._sold:
             raise NameTaken(sale)
         try:
-            taken, left = self._rule(self._layers, units)
+            taken, left = self._rule.parted(self._layers, units)
         except Short as short:
             raise NotEnough(place[0], place[1], short.missing.top) from None
         self._sold[sale] = taken
         self._layers = left
-        return self._cost_of(taken)
+        return self.cost_of(taken)
 
     def _bring_back(self, place, sale, units):
         if sale not in self._sold:
@@ -103,7 +113,7 @@ class Costing:
             raise TooMany(place[0], place[1], units - short.missing.top) from None
         self._sold[sale] = kept
         self._layers = self._rule.laid(self._layers, back, list(self._bought))
-        return -self._cost_of(back)
+        return -self.cost_of(back)
 
     def _charge(self, cost, lot):
         """Add a late cost to its lot; it books the part that sold units bear."""
@@ -120,13 +130,3 @@ class Costing:
         if name in self._unknowns:
             raise NameTaken(name)
         self._unknowns[name] = True
-
-    def _cost_of(self, parts):
-        """Return the cost of the units in these parts, with the late costs so far."""
-        units = _sums(parts)
-        shares = {}
-        for lot in units:
-            shares[lot] = units[lot]
-            for cost in self._late[lot]:
-                shares[cost] = units[lot].over(self._bought[lot])
-        return Form(shares)

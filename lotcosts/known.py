@@ -39,6 +39,10 @@ class Known:
         """Return a dict whose keys are the least closed set with these names."""
         return _reached(self._higher, names)
 
+    def extended(self, pairs):
+        """Return these comparisons and further ones."""
+        return Known(self._pairs + list(pairs))
+
     def turned(self):
         """Return the comparisons with each pair the other way round."""
         return Known([(high, low) for low, high in self._pairs])

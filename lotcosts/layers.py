@@ -77,6 +77,10 @@ class Rule:
 
     def __call__(self, layers, units):
         """Return the parts that are taken, in order, and the layers that are left; may raise Short."""
+        return self.parted(layers, units)
+
+    def parted(self, layers, units):
+        """Return what a call of the rule returns: the parts that are taken, and the layers that are left."""
         wanted = as_ratio(units)
         if self.take == "oldest":
             return _first_units(layers, wanted)

@@ -124,6 +124,55 @@ len(periods_show(Rule("even", period=1)))]
 >>> [ledger.pending().share("blue").top, ledger.close(6).same(sales["one"]), ledger.closed()]
 [2, True, [5, 6]]
 """,
+    "cents": """
+>>> from lotcosts.cents import dealt, rounded
+>>> from lotcosts.books import Book
+>>> from lotcosts.layers import Rule
+>>> book = Book()
+>>> book[1, 0] = ("buy", "old", 1)
+>>> book[2, 0] = ("buy", "new", 1)
+>>> book[3, 0] = ("sell", "s", 1)
+>>> book[4, 0] = ("sell", "t", 1)
+>>> [cents for place, cents in rounded(book, Rule("even"), {"old": 1, "new": 2})]
+[0, 0, 2, 1]
+>>> dealt(10, [1, 1, 1])
+[3, 4, 3]
+""",
+    "desk": """
+>>> from lotcosts.desk import Desk
+>>> desk = Desk(Rule("oldest"))
+>>> desk.all_of(early)
+>>> desk.tell("red", Ratio(5, 2))
+>>> [desk.amount("one").same(Ratio(15, 2)), desk.value().same(0), len(desk)]
+[True, True, 2]
+>>> desk.follow(Rule("even"))
+>>> [desk.rule.take, desk.tried(lambda d: d.cost("one").names()), (1, 0) in desk]
+['even', ['red'], True]
+""",
+    "later": """
+>>> from lotcosts.later import later_parts, next_cost, pieces
+>>> one = Book()
+>>> one[1, 0] = ("buy", "red", 2)
+>>> one[1, 1] = ("buy", "blue", 3)
+>>> other = one.joined(Book())
+>>> other[2, 0] = ("sell", "some", 1)
+>>> other[3, 0] = ("back", "some", 1)
+>>> [later_parts(one, other, Rule("oldest")), later_parts(one, other, Rule("oldest", place="top"))]
+[None, 2]
+>>> [pieces(other, Rule("oldest", place="top")), next_cost(one, Rule("even"), 5).share("blue").same(3)]
+[[('red', 1), ('blue', 3), ('red', 1)], True]
+""",
+    "shown": """
+>>> from lotcosts.shown import Shown, fewest_comparisons
+>>> wool, silk = Form.of("wool"), Form.of("silk")
+>>> shown = Shown([wool + silk, wool - silk])
+>>> [[weight.top for weight in shown.weights(4 * wool)], shown.unseen(silk), shown.needless(), shown.prices_told()]
+[[2, 2], None, [], ['silk', 'wool']]
+>>> [shown.value(silk, [9, 1]).top, len(shown.fewest_hidden(silk)), Shown([wool]).unseen(silk)["wool"].top]
+[4, 1, 0]
+>>> fewest_comparisons(wool, silk, Known([("flax", "silk")]), [("wool", "wool"), ("wool", "flax")])
+[1]
+""",
 }
 
 
